@@ -1,0 +1,1 @@
+"""Askedfor: a language of effects and handlers."""

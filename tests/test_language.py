@@ -1,0 +1,61 @@
+"""The package keeps to the sizes, characters and imports that its subset of Python allows."""
+
+import ast
+import pathlib
+import unittest
+
+PACKAGE = pathlib.Path(__file__).resolve().parent.parent / "askedfor"
+
+INTERFACE = {
+    "errors": [
+        "Refused", "Malformed", "Unknown", "Twice", "Mismatched", "Unhandled", "Unbounded",
+    ],
+    "tokens": ["tokenize"],
+    "reader": ["read"],
+}
+
+
+class LanguageTest(unittest.TestCase):
+    def files(self):
+        for path in sorted(PACKAGE.glob("*.py")):
+            with self.subTest(path.name):
+                yield path, path.read_text(encoding="utf-8")
+
+    def test_only_modules_stand_in_the_package(self):
+        names = sorted(path.name for path in PACKAGE.iterdir() if path.name != "__pycache__")
+        self.assertEqual([name for name in names if not name.endswith(".py")], [])
+        self.assertIn("__init__.py", names)
+
+    def test_sizes_and_characters(self):
+        for _, text in self.files():
+            lines = text.splitlines()
+            self.assertLessEqual(len(lines), 399)
+            self.assertLessEqual(max(len(line) for line in lines), 120)
+            self.assertEqual([c for c in text if not (" " <= c <= "~" or c == "\n")], [])
+
+    def test_functions_are_short(self):
+        for _, text in self.files():
+            for node in ast.walk(ast.parse(text)):
+                if isinstance(node, ast.FunctionDef):
+                    self.assertLessEqual(node.end_lineno - node.lineno + 1, 40, node.name)
+
+    def test_imports_come_from_the_package(self):
+        for _, text in self.files():
+            for node in ast.walk(ast.parse(text)):
+                self.assertNotIsInstance(node, ast.Import)
+                if isinstance(node, ast.ImportFrom):
+                    self.assertEqual(node.level, 0)
+                    self.assertTrue(node.module.startswith("askedfor."), node.module)
+
+    def test_the_interface_is_defined_where_it_is_listed(self):
+        for module, names in INTERFACE.items():
+            tree = ast.parse((PACKAGE / f"{module}.py").read_text(encoding="utf-8"))
+            defined = [
+                node.name for node in tree.body if isinstance(node, (ast.FunctionDef, ast.ClassDef))
+            ]
+            for name in names:
+                self.assertIn(name, defined)
+
+
+if __name__ == "__main__":
+    unittest.main()
