@@ -12,7 +12,18 @@ INTERFACE = {
     ],
     "tokens": ["tokenize"],
     "reader": ["read"],
+    "writer": ["show"],
+    "trees": ["parts", "with_parts", "numbered", "free_names", "put_in"],
+    "rows": ["Rows"],
+    "infer": ["MOST_SIZE", "infer"],
 }
+METHODS = {("rows", "Rows"): ["fresh", "contain", "flow", "same", "least"]}
+
+# Words that stand in no file of the package, except in comments and docstrings.
+BARRED = (
+    "type", "typing", "enum", "Generic", "Protocol", "register", "elements", "open", "input", "law",
+    "eval", "exec", "globals", "locals", "vars", "id", "dir", "map", "filter", "super", "chr",
+)
 
 
 class LanguageTest(unittest.TestCase):
@@ -53,8 +64,38 @@ class LanguageTest(unittest.TestCase):
             defined = [
                 node.name for node in tree.body if isinstance(node, (ast.FunctionDef, ast.ClassDef))
             ]
+            for node in tree.body:
+                if isinstance(node, ast.Assign):
+                    defined += [target.id for target in node.targets]
             for name in names:
                 self.assertIn(name, defined)
+
+    def test_the_methods_are_defined_in_the_class_itself(self):
+        for (module, name), methods in METHODS.items():
+            tree = ast.parse((PACKAGE / f"{module}.py").read_text(encoding="utf-8"))
+            for node in tree.body:
+                if isinstance(node, ast.ClassDef) and node.name == name:
+                    defined = [each.name for each in node.body if isinstance(each, ast.FunctionDef)]
+            for method in methods:
+                self.assertIn(method, defined)
+
+    def test_words_that_are_not_used(self):
+        for _, text in self.files():
+            for node in ast.walk(ast.parse(text)):
+                used = [getattr(node, field, None) for field in ("id", "attr", "arg", "name")]
+                for word in used:
+                    self.assertNotIn(word, BARRED)
+                if isinstance(node, ast.Constant):
+                    self.assertNotIsInstance(node.value, (float, complex))
+
+    def test_statements_that_are_not_used(self):
+        for _, text in self.files():
+            for node in ast.walk(ast.parse(text)):
+                self.assertNotIsInstance(
+                    node, (ast.Global, ast.AsyncFunctionDef, ast.Await, ast.Set, ast.Div)
+                )
+                if isinstance(node, (ast.FunctionDef, ast.ClassDef)):
+                    self.assertEqual(node.decorator_list, [])
 
 
 if __name__ == "__main__":
