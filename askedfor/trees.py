@@ -1,9 +1,11 @@
 """Trees: the parts of expressions, the names that occur in them, and what is put in for names."""
 
 # At which index of its tuple the parts of an expression begin; a `handle` is built in another way.
+# ("known", value) stands for a value that was put in. Values have no free names and are not
+# evaluated again, so there is no need to look at what is inside, which may be very deep.
 FIRST_PART = {
     "num": 2, "flag": 2, "unit": 1, "name": 2, "call": 1, "fun": 2, "rec": 3, "let": 2, "if": 1,
-    "pair": 1, "fst": 1, "snd": 1, "op": 2, "not": 1, "print": 1, "ask": 2, "kept": 2,
+    "pair": 1, "fst": 1, "snd": 1, "op": 2, "not": 1, "print": 1, "ask": 2, "kept": 2, "known": 2,
 }
 
 
@@ -69,12 +71,15 @@ def note_free_names(expression, bound, found):
 
 def put_in(expression, name, tree):
     """Return the expression with the tree for each free occurrence of the name."""
-    if expression == ("name", name):
-        return tree
+    return put_all_in(expression, {name: tree})
+
+
+def put_all_in(expression, trees):
+    """Return the expression with a tree for each free occurrence of each name that has one."""
+    if expression[0] == "name":
+        return trees.get(expression[1], expression)
     changed = []
     for part, names in zip(parts(expression), bound_in_parts(expression)):
-        if name in names:
-            changed.append(part)
-        else:
-            changed.append(put_in(part, name, tree))
+        inner = {name: trees[name] for name in trees if name not in names} if names else trees
+        changed.append(put_all_in(part, inner) if inner else part)
     return with_parts(expression, changed)

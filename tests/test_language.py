@@ -16,6 +16,9 @@ INTERFACE = {
     "trees": ["parts", "with_parts", "numbered", "free_names", "put_in"],
     "rows": ["Rows"],
     "infer": ["MOST_SIZE", "infer"],
+    "judge": ["is_typing"],
+    "plain": ["run_plain"],
+    "machine": ["run_machine", "run_counted"],
 }
 METHODS = {("rows", "Rows"): ["fresh", "contain", "flow", "same", "least"]}
 
