@@ -56,6 +56,18 @@ ENDING = (
     ),
     ("functions of functions", "(fun f => fun x => f (f x)) (fun y => y * 3) 5", 4, (), ("value", ("int", 45))),
     (
+        "names of where a handler stands",
+        "effect o : int -> int; let y = 1 in handle (let y = 50 in ask o y) + (let w = 700 in w) "
+        "{ return x => let w = 2 in x + y + w | o z k => let y = y + 10 in k (y + z) }",
+        2, (), ("value", ("int", 11 + 50 + 700 + 1 + 2)),
+    ),
+    (
+        "names of where a function stands that is called elsewhere",
+        "effect o : int -> int; let y = 1 in let f = fun x => ask o (x + y) in let y = 20 in "
+        "handle (let y = 300 in f y) { return x => x + y | o z k => let f = fun y => k (y + z) in f (y * 2) }",
+        4, (), ("value", ("int", 301 + 40 + 20)),
+    ),
+    (
         "order around an ask",
         "effect o : int -> int; handle ask o (print 1; 5) "
         "{ return x => print 4; x | o y k => print 2; print y; k (print 3; y + 1) }",

@@ -188,6 +188,50 @@ class TypesTest(JudgeTest):
         self.wrong("handle ask o 1 { return x => true | o y k => y }", [BOOL, BOOL, INT, BOOL, INT],
                    [(), ("o",), (), (), ()])
 
+    def judge_names(self, body, whole, names, answer):
+        """Judge an expression whose parts are names with these types, bound by functions around it."""
+        row = ("o",) if "ask" in body else ()
+        program = read(f"{EFFECTS}fun x => fun y => fun z => {body}")
+        inner = fun(names["z"], row, whole)
+        middle = fun(names["y"], (), inner)
+        types = [fun(names["x"], (), middle), middle, inner, whole]
+        types += [names[one[1]] for one in numbered(program[2])[4:]]
+        rows = [(), (), (), row] + [()] * (len(types) - 4)
+        with self.subTest(body, whole=whole, names=names):
+            self.assertIs(is_typing(program, types, rows), answer)
+
+    def test_parts_that_could_have_other_types(self):
+        for body, whole, names, wrong_names in (
+            ("if x then y else z", PAIR, {"x": BOOL, "y": PAIR, "z": PAIR}, "xyz"),
+            ("x y", UNIT, {"x": fun(PAIR, (), UNIT), "y": PAIR}, "xy"),
+            ("(x, y)", ("pair", INT, FUN), {"x": INT, "y": FUN}, "xy"),
+            ("fst x", FUN, {"x": ("pair", FUN, UNIT)}, "x"),
+            ("snd x", FUN, {"x": ("pair", UNIT, FUN)}, "x"),
+            ("x + y", INT, {"x": INT, "y": INT}, "xy"),
+            ("x < y", BOOL, {"x": INT, "y": INT}, "xy"),
+            ("x == y", BOOL, {"x": INT, "y": INT}, "xy"),
+            ("not x", BOOL, {"x": BOOL}, "x"),
+            ("print x; y", FUN, {"x": INT, "y": FUN}, "xy"),
+            ("let v = x in y", FUN, {"x": INT, "y": FUN}, "y"),
+            ("ask o x", BOOL, {"x": INT}, "x"),
+            ("handle x { return v => y | o v k => z }", FUN, {"x": INT, "y": FUN, "z": FUN}, "yz"),
+        ):
+            right = {"x": UNIT, "y": UNIT, "z": UNIT, **names}
+            self.judge_names(body, whole, right, True)
+            for other in (INT, BOOL, PAIR, fun(INT, ("o",), INT), fun(PAIR, (), PAIR)):
+                if other != whole:
+                    self.judge_names(body, other, right, False)
+                for name in wrong_names:
+                    if other != right[name]:
+                        self.judge_names(body, whole, {**right, name: other}, False)
+        # What is bound and not used, and the other half of a pair, may be anything.
+        for other in (INT, BOOL, PAIR, FUN):
+            names = {"x": other, "y": FUN, "z": FUN}
+            self.judge_names("let v = x in y", FUN, names, True)
+            self.judge_names("handle x { return v => y | o v k => z }", FUN, names, True)
+            self.judge_names("fst x", INT, {**names, "x": ("pair", INT, other)}, True)
+            self.judge_names("snd x", INT, {**names, "x": ("pair", other, INT)}, True)
+
     def test_the_argument_of_a_clause_has_the_type_of_the_operation(self):
         self.right("handle 1 { return x => 1 | o y k => y }", [INT, INT, INT, INT])
         self.wrong("handle 1 { return x => true | o y k => y }", [BOOL, INT, BOOL, BOOL])
@@ -449,6 +493,14 @@ class SizesTest(JudgeTest):
         self.right("fun x => (x, x)", [fun(one, (), ("pair", one, one)), ("pair", one, one), one, one])
         self.wrong("fun x => (x, x)", [fun(one, (), ("pair", one, one)), ("pair", one, one), one, one[1]])
         self.wrong("fun x => (x, x)", [fun(one, (), ("pair", one, BOOL)), ("pair", one, one), one, one])
+        # They differ only where one comes last that looks at one after the other, from either side.
+        left, right, inner = BOOL, BOOL, INT
+        for _ in range(60):
+            left, right, inner = ("pair", left, inner), ("pair", inner, right), ("pair", inner, inner)
+        for other in (left, right):
+            self.wrong("fun x => x", [fun(inner, (), other), other])
+            self.wrong("fun x => x", [fun(other, (), inner), other])
+            self.right("fun x => x", [fun(other, (), other), other])
 
 
 class InferredTest(unittest.TestCase):
