@@ -19,6 +19,10 @@ INTERFACE = {
     "judge": ["is_typing"],
     "plain": ["run_plain"],
     "machine": ["run_machine", "run_counted"],
+    "answers": ["answers_at_once", "keeps_nothing"],
+    "code": ["compile_expression"],
+    "runner": ["run_code", "run_kept"],
+    "whole": ["outcome", "all_outcomes"],
 }
 METHODS = {("rows", "Rows"): ["fresh", "contain", "flow", "same", "least"]}
 
