@@ -4,7 +4,7 @@ Values are tuples whose first item tells their form: ("num", n), ("flag", b), ("
 ("pair", v, w) on all roads. Each road has its own forms for functions and resumptions.
 """
 
-HALF = 2 ** 31
+HALF = 2147483648
 
 # At which indexes of its tuple the parts of an expression stand that are evaluated before the
 # expression itself.
